@@ -1,0 +1,62 @@
+// Package scribe: patterns that take records apart: see DOC.md.
+package scribe
+
+import (
+	"scribe/api"
+	"scribe/printer"
+	"scribe/reader"
+	"scribe/tree"
+)
+
+// Pattern is one that was read.
+type Pattern struct {
+	root *tree.Node
+	told int
+}
+
+// Stream cuts bytes into records.
+type Stream struct{}
+
+// Print reads a pattern, and prints it (P3).
+func Print(pattern string) (string, api.Errno, int) {
+	root, _, fault := reader.Read(pattern)
+	if fault.Code != api.OK {
+		return "", fault.Code, fault.At
+	}
+	return printer.Print(root), api.OK, 0
+}
+
+// Compile reads a pattern (P4).
+func Compile(pattern string) (*Pattern, api.Errno, int) {
+	root, told, fault := reader.Read(pattern)
+	if fault.Code != api.OK {
+		return nil, fault.Code, fault.At
+	}
+	return &Pattern{root: root, told: told}, api.OK, 0
+}
+
+// Groups tells how many groups are told (P4).
+func (p *Pattern) Groups() (int, api.Errno) {
+	if p == nil {
+		return 0, api.ErrNil
+	}
+	return p.told, api.OK
+}
+
+// Match matches a whole text (P5).
+func (p *Pattern) Match(text string) ([]api.Span, api.Errno) { return nil, api.OK }
+
+// Longest matches the longest beginning of a text that it can (P6).
+func (p *Pattern) Longest(text string) (int, []api.Span, api.Errno) { return 0, nil, api.OK }
+
+// Open opens a stream (P7).
+func (p *Pattern) Open(limit int) (*Stream, api.Errno) { return nil, api.OK }
+
+// Feed takes bytes (P7).
+func (s *Stream) Feed(b []byte) ([]api.Record, api.Errno) { return nil, api.OK }
+
+// Close ends a stream (P7).
+func (s *Stream) Close() ([]api.Record, api.Errno) { return nil, api.OK }
+
+// Held tells how many bytes a stream holds (P7).
+func (s *Stream) Held() (int, api.Errno) { return 0, api.OK }
