@@ -3,6 +3,7 @@ package scribe
 
 import (
 	"scribe/api"
+	"scribe/matcher"
 	"scribe/printer"
 	"scribe/reader"
 	"scribe/tree"
@@ -44,10 +45,32 @@ func (p *Pattern) Groups() (int, api.Errno) {
 }
 
 // Match matches a whole text (P5).
-func (p *Pattern) Match(text string) ([]api.Span, api.Errno) { return nil, api.OK }
+func (p *Pattern) Match(text string) ([]api.Span, api.Errno) {
+	if code := p.refuses(text); code != api.OK {
+		return nil, code
+	}
+	return matcher.Whole(p.root, p.told, text), api.OK
+}
 
 // Longest matches the longest beginning of a text that it can (P6).
-func (p *Pattern) Longest(text string) (int, []api.Span, api.Errno) { return 0, nil, api.OK }
+func (p *Pattern) Longest(text string) (int, []api.Span, api.Errno) {
+	if code := p.refuses(text); code != api.OK {
+		return 0, nil, code
+	}
+	length, spans := matcher.Longest(p.root, p.told, text)
+	return length, spans, api.OK
+}
+
+// refuses tells why a text can't be matched at all; OK, if it can.
+func (p *Pattern) refuses(text string) api.Errno {
+	switch {
+	case p == nil:
+		return api.ErrNil
+	case len(text) > api.MaxText:
+		return api.ErrLong
+	}
+	return api.OK
+}
 
 // Open opens a stream (P7).
 func (p *Pattern) Open(limit int) (*Stream, api.Errno) { return nil, api.OK }
