@@ -11,78 +11,125 @@ import (
 // part is where a group is, once.
 type part struct{ number, from, to int }
 
-// rule is a thing of a pattern, with the document's words on what it matches. Every cut is tried, and nothing is kept in mind: it is for short texts.
+// rule is a thing of a pattern, with the document's words on what it matches: the parts of a text one by one, each from a place to another one.
 type rule interface {
-	match(text string, from, to int) ([]part, bool)
+	match(t *trial, from, to int) ([]part, bool)
 }
 
 type (
-	ruleByte   func(b byte) bool
-	ruleRow    []rule
-	ruleChoice []rule
-	ruleGroup  struct {
+	ruleByte struct {
+		fits func(b byte) bool
+	}
+	ruleChoice struct {
+		rows []rule
+	}
+	ruleGroup struct {
 		number int
 		inner  rule
 	}
+	ruleEmpty struct{}
+	ruleRow   struct {
+		first, rest rule
+	}
+	// ruleTurns has no next ones, if there can't be more turns.
 	ruleTurns struct {
-		atom        rule
-		least, most int
+		atom, next rule
+		least      int
 	}
 )
 
-// noEnd is more turns than any text has bytes.
-const noEnd = 1000
-
-func (r ruleByte) match(text string, from, to int) ([]part, bool) {
-	return nil, to == from+1 && r(text[from])
+// trial is a text, and what is known of its parts.
+type trial struct {
+	text  string
+	known map[asked]outcome
 }
 
-func (r ruleRow) match(text string, from, to int) ([]part, bool) {
-	if len(r) == 0 {
-		return nil, from == to
+type asked struct {
+	rule
+	from, to int
+}
+
+type outcome struct {
+	parts []part
+	ok    bool
+}
+
+func (t *trial) match(r rule, from, to int) ([]part, bool) {
+	key := asked{r, from, to}
+	found, ok := t.known[key]
+	if !ok {
+		found.parts, found.ok = r.match(t, from, to)
+		t.known[key] = found
 	}
-	return cut(r[0], r[1:], text, from, from, to)
+	return found.parts, found.ok
 }
 
-func (r ruleChoice) match(text string, from, to int) ([]part, bool) {
-	for _, row := range r {
-		if parts, ok := row.match(text, from, to); ok {
+// cut makes the first piece as long as it can be; it ends at least at a place.
+func (t *trial) cut(first, rest rule, from, least, to int) ([]part, bool) {
+	for end := to; end >= least; end-- {
+		if parts, ok := t.match(first, from, end); ok {
+			if others, ok := t.match(rest, end, to); ok {
+				return slices.Concat(parts, others), true
+			}
+		}
+	}
+	return nil, false
+}
+
+func (r *ruleByte) match(t *trial, from, to int) ([]part, bool) {
+	return nil, to == from+1 && r.fits(t.text[from])
+}
+
+func (r *ruleEmpty) match(t *trial, from, to int) ([]part, bool) {
+	return nil, from == to
+}
+
+func (r *ruleRow) match(t *trial, from, to int) ([]part, bool) {
+	return t.cut(r.first, r.rest, from, from, to)
+}
+
+func (r *ruleChoice) match(t *trial, from, to int) ([]part, bool) {
+	for _, row := range r.rows {
+		if parts, ok := t.match(row, from, to); ok {
 			return parts, true
 		}
 	}
 	return nil, false
 }
 
-func (r ruleGroup) match(text string, from, to int) ([]part, bool) {
-	parts, ok := r.inner.match(text, from, to)
+func (r *ruleGroup) match(t *trial, from, to int) ([]part, bool) {
+	parts, ok := t.match(r.inner, from, to)
 	if ok && r.number > 0 {
-		parts = append(parts, part{r.number, from, to})
+		parts = slices.Concat(parts, []part{{r.number, from, to}})
 	}
 	return parts, ok
 }
 
-func (r ruleTurns) match(text string, from, to int) ([]part, bool) {
+func (r *ruleTurns) match(t *trial, from, to int) ([]part, bool) {
 	switch {
 	case r.least > 0:
-		return cut(r.atom, ruleTurns{r.atom, r.least - 1, r.most - 1}, text, from, from, to)
+		return t.cut(r.atom, r.next, from, from, to)
 	case from == to:
 		return nil, true
-	case r.most > 0:
-		return cut(r.atom, ruleTurns{r.atom, 0, r.most - 1}, text, from, from+1, to)
+	case r.next != nil:
+		return t.cut(r.atom, r.next, from, from+1, to)
 	}
 	return nil, false
 }
 
-// cut makes the first piece as long as it can be; it ends at least at a place.
-func cut(first, rest rule, text string, from, least, to int) ([]part, bool) {
-	for end := to; end >= least; end-- {
-		if parts, ok := first.match(text, from, end); ok {
-			if others, ok := rest.match(text, end, to); ok {
-				return slices.Concat(parts, others), true
-			}
-		}
+const noEnd = -1
+
+func turnsOf(atom rule, least, most int) *ruleTurns {
+	r := &ruleTurns{atom: atom, least: least}
+	switch {
+	case least == 0 && most == noEnd:
+		r.next = r
+	case most == noEnd:
+		r.next = turnsOf(atom, least-1, noEnd)
+	case most > 0:
+		r.next = turnsOf(atom, max(least-1, 0), most-1)
 	}
-	return nil, false
+	return r
 }
 
 // ruleReader reads patterns that are known to be right.
@@ -92,19 +139,19 @@ type ruleReader struct {
 }
 
 func (r *ruleReader) choice() rule {
-	rows := ruleChoice{r.row()}
+	rows := []rule{r.row()}
 	for r.take("|") {
 		rows = append(rows, r.row())
 	}
-	return rows
+	return &ruleChoice{rows}
 }
 
 func (r *ruleReader) row() rule {
-	row := ruleRow{}
-	for r.text != "" && r.text[0] != '|' && r.text[0] != ')' {
-		row = append(row, r.counted(r.atom()))
+	if r.text == "" || r.text[0] == '|' || r.text[0] == ')' {
+		return &ruleEmpty{}
 	}
-	return row
+	first := r.counted(r.atom())
+	return &ruleRow{first, r.row()}
 }
 
 func (r *ruleReader) atom() rule {
@@ -117,16 +164,16 @@ func (r *ruleReader) atom() rule {
 	case r.take("["):
 		return r.list()
 	case r.take("."):
-		return ruleByte(func(b byte) bool { return b != 10 })
+		return &ruleByte{func(b byte) bool { return b != 10 }}
 	}
 	only := r.end()
-	return ruleByte(func(b byte) bool { return b == only })
+	return &ruleByte{func(b byte) bool { return b == only }}
 }
 
 func (r *ruleReader) group(number int) rule {
 	inner := r.choice()
 	r.take(")")
-	return ruleGroup{number, inner}
+	return &ruleGroup{number, inner}
 }
 
 func (r *ruleReader) list() rule {
@@ -142,7 +189,7 @@ func (r *ruleReader) list() rule {
 			in[b] = true
 		}
 	}
-	return ruleByte(func(b byte) bool { return in[b] != not })
+	return &ruleByte{func(b byte) bool { return in[b] != not }}
 }
 
 func (r *ruleReader) end() byte {
@@ -161,11 +208,11 @@ func (r *ruleReader) end() byte {
 func (r *ruleReader) counted(atom rule) rule {
 	switch {
 	case r.take("*"):
-		return ruleTurns{atom, 0, noEnd}
+		return turnsOf(atom, 0, noEnd)
 	case r.take("+"):
-		return ruleTurns{atom, 1, noEnd}
+		return turnsOf(atom, 1, noEnd)
 	case r.take("?"):
-		return ruleTurns{atom, 0, 1}
+		return turnsOf(atom, 0, 1)
 	case r.take("{"):
 		count, behind, _ := strings.Cut(r.text, "}")
 		r.text = behind
@@ -177,7 +224,7 @@ func (r *ruleReader) counted(atom rule) rule {
 		} else if err != nil {
 			most = noEnd
 		}
-		return ruleTurns{atom, least, most}
+		return turnsOf(atom, least, most)
 	}
 	return atom
 }
@@ -190,7 +237,7 @@ func (r *ruleReader) take(s string) bool {
 
 // ruled is a whole pattern.
 type ruled struct {
-	rule
+	root rule
 	told int
 }
 
@@ -201,21 +248,22 @@ func ruledOf(pattern string) ruled {
 }
 
 // spans is what must be told, if the pattern is matched with the text's first bytes.
-func (r ruled) spans(text string, to int) []api.Span {
-	parts, ok := r.match(text, 0, to)
+func (r ruled) spans(t *trial, to int) []api.Span {
+	parts, ok := t.match(r.root, 0, to)
 	if !ok {
 		return nil
 	}
 	spans := slices.Repeat([]api.Span{{From: -1, To: -1}}, r.told+1)
-	for _, p := range append(parts, part{0, 0, to}) {
+	spans[0] = api.Span{From: 0, To: to}
+	for _, p := range parts {
 		spans[p.number] = api.Span{From: p.from, To: p.to}
 	}
 	return spans
 }
 
-func (r ruled) longest(text string) (int, []api.Span) {
-	for to := len(text); to >= 0; to-- {
-		if spans := r.spans(text, to); spans != nil {
+func (r ruled) longest(t *trial) (int, []api.Span) {
+	for to := len(t.text); to >= 0; to-- {
+		if spans := r.spans(t, to); spans != nil {
 			return to, spans
 		}
 	}
