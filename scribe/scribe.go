@@ -3,6 +3,7 @@ package scribe
 
 import (
 	"scribe/api"
+	"scribe/cutter"
 	"scribe/matcher"
 	"scribe/printer"
 	"scribe/reader"
@@ -16,7 +17,10 @@ type Pattern struct {
 }
 
 // Stream cuts bytes into records.
-type Stream struct{}
+type Stream struct {
+	// cutter is nil when the stream is closed, so that nothing of it is kept.
+	cutter *cutter.Cutter
+}
 
 // Print reads a pattern, and prints it (P3).
 func Print(pattern string) (string, api.Errno, int) {
@@ -49,7 +53,7 @@ func (p *Pattern) Match(text string) ([]api.Span, api.Errno) {
 	if code := p.refuses(text); code != api.OK {
 		return nil, code
 	}
-	return matcher.Whole(p.root, p.told, text), api.OK
+	return p.whole(text), api.OK
 }
 
 // Longest matches the longest beginning of a text that it can (P6).
@@ -72,14 +76,58 @@ func (p *Pattern) refuses(text string) api.Errno {
 	return api.OK
 }
 
+// whole matches a whole text that is not refused.
+func (p *Pattern) whole(text string) []api.Span {
+	return matcher.Whole(p.root, p.told, text)
+}
+
 // Open opens a stream (P7).
-func (p *Pattern) Open(limit int) (*Stream, api.Errno) { return nil, api.OK }
+func (p *Pattern) Open(limit int) (*Stream, api.Errno) {
+	switch {
+	case p == nil:
+		return nil, api.ErrNil
+	case limit < 0 || limit > api.MaxText:
+		return nil, api.ErrArg
+	}
+	return &Stream{cutter: cutter.New(limit, p.whole)}, api.OK
+}
 
 // Feed takes bytes (P7).
-func (s *Stream) Feed(b []byte) ([]api.Record, api.Errno) { return nil, api.OK }
+func (s *Stream) Feed(b []byte) ([]api.Record, api.Errno) {
+	if code := s.refuses(); code != api.OK {
+		return nil, code
+	}
+	return s.cutter.Feed(b), api.OK
+}
 
 // Close ends a stream (P7).
-func (s *Stream) Close() ([]api.Record, api.Errno) { return nil, api.OK }
+func (s *Stream) Close() ([]api.Record, api.Errno) {
+	if code := s.refuses(); code != api.OK {
+		return nil, code
+	}
+	records := s.cutter.Close()
+	s.cutter = nil
+	return records, api.OK
+}
+
+// refuses tells why a stream goes no further; OK, if it does.
+func (s *Stream) refuses() api.Errno {
+	switch {
+	case s == nil:
+		return api.ErrNil
+	case s.cutter == nil:
+		return api.ErrClosed
+	}
+	return api.OK
+}
 
 // Held tells how many bytes a stream holds (P7).
-func (s *Stream) Held() (int, api.Errno) { return 0, api.OK }
+func (s *Stream) Held() (int, api.Errno) {
+	switch {
+	case s == nil:
+		return 0, api.ErrNil
+	case s.cutter == nil:
+		return 0, api.OK
+	}
+	return s.cutter.Held(), api.OK
+}
